@@ -1,0 +1,1 @@
+"""Signed counts: words with undone letters, told by their patterns."""

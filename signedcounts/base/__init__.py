@@ -1,0 +1,1 @@
+"""What all other parts of the package use."""

@@ -1,0 +1,1 @@
+"""Words with undone letters."""

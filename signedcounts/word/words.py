@@ -1,0 +1,164 @@
+"""Words, told by their runs."""
+
+from signedcounts.base.names import MAX_TEXT
+from signedcounts.base.names import check_letters
+from signedcounts.base.names import is_integer
+from signedcounts.base.names import is_text
+from signedcounts.errors import InvalidNumber
+from signedcounts.errors import InvalidOperation
+from signedcounts.errors import InvalidText
+from signedcounts.errors import InvalidWord
+from signedcounts.errors import TooMany
+
+MAX_RUNS = 200
+MAX_POWER = 400
+
+
+class Word:
+    """A word: letters, some of them undone, told by its only row of runs."""
+
+    def __init__(self, letters, runs):
+        check_letters(letters)
+        if not _are_pairs(letters, runs):
+            raise InvalidOperation("runs are a tuple of pairs of a letter and an integer")
+        self._letters = letters
+        self._runs = _within_limit(_reduced(runs))
+
+    @classmethod
+    def of(cls, letters, text):
+        """The word of a text."""
+        if not is_text(letters, text):
+            raise InvalidText(f"a text has at most {MAX_TEXT} signs, the letters and their capitals")
+        return cls(letters, tuple([_pair_of(sign) for sign in text]))
+
+    @property
+    def letters(self):
+        """The letters."""
+        return self._letters
+
+    @property
+    def runs(self):
+        """The tuple of the runs."""
+        return self._runs
+
+    @property
+    def size(self):
+        """The number of signs of the shortest text."""
+        return sum([abs(run[1]) for run in self._runs])
+
+    def __getitem__(self, index):
+        if not is_integer(index) or not 0 <= index < len(self._runs):
+            raise InvalidNumber(index)
+        return self._runs[index]
+
+    def __len__(self):
+        return len(self._runs)
+
+    def __iter__(self):
+        return iter(self._runs)
+
+    def __eq__(self, other):
+        return isinstance(other, Word) and self._letters == other._letters and self._runs == other._runs
+
+    def __str__(self):
+        return f"word of {len(self._runs)} runs over {self._letters}"
+
+    def __repr__(self):
+        # The exponents can be longer than what Python writes, so they are not told.
+        return f"<word of {len(self._runs)} runs over {self._letters}>"
+
+    def __mul__(self, other):
+        if not isinstance(other, Word) or other._letters != self._letters:
+            raise InvalidOperation("the other operand is no word with the same letters")
+        return _made(self._letters, self._runs + other._runs)
+
+    def __invert__(self):
+        return _made(self._letters, _undone(self._runs))
+
+    def power(self, number):
+        """So many of the word one behind the other, or of it undone."""
+        if not is_integer(number) or abs(number) > MAX_POWER:
+            raise InvalidNumber(number)
+        runs = self._runs if number >= 0 else _undone(self._runs)
+        return _made(self._letters, runs * abs(number))
+
+    def turned(self, other):
+        """The word with the other one ahead and this one undone behind it."""
+        _check_other(self, other)
+        return _made(self._letters, other._runs + self._runs + _undone(other._runs))
+
+    def bracket(self, other):
+        """The word, the other one, and both undone, one behind the other."""
+        _check_other(self, other)
+        return _made(self._letters, self._runs + other._runs + _undone(self._runs) + _undone(other._runs))
+
+    def shortest(self):
+        """The shortest text."""
+        if self.size > MAX_TEXT:
+            raise TooMany(MAX_TEXT)
+        return "".join([_signs(letter, exponent) for letter, exponent in self._runs])
+
+    def over(self, letters):
+        """The word over more letters."""
+        check_letters(letters)
+        if not all([letter in letters for letter in self._letters]):
+            raise InvalidOperation("the letters of the word are not among these")
+        return _made(letters, self._runs)
+
+
+def _made(letters, pairs):
+    """The word of pairs that come of words: their integers can be longer than passed ones."""
+    runs = _within_limit(_reduced(pairs))
+    word = Word(letters, ())
+    word._runs = runs
+    return word
+
+
+def _reduced(pairs):
+    """The runs that are left when neighbours with the same letter are put together."""
+    found = []
+    for letter, exponent in pairs:
+        total = exponent
+        if found and found[-1][0] == letter:
+            total = found[-1][1] + exponent
+            found.pop()
+        if total != 0:
+            found.append((letter, total))
+    return tuple(found)
+
+
+def _within_limit(runs):
+    if len(runs) > MAX_RUNS:
+        raise TooMany(MAX_RUNS)
+    return runs
+
+
+def _undone(runs):
+    return tuple([(letter, -exponent) for letter, exponent in runs[::-1]])
+
+
+def _check_other(word, other):
+    if not isinstance(other, Word):
+        raise InvalidWord("the other one is no word")
+    if other._letters != word._letters:
+        raise InvalidOperation("the two words have unlike letters")
+
+
+def _are_pairs(letters, value):
+    return isinstance(value, tuple) and all([_is_pair(letters, part) for part in value])
+
+
+def _is_pair(letters, value):
+    if not isinstance(value, tuple) or len(value) != 2:
+        return False
+    letter, exponent = value
+    # A part of the letters that is no single letter is within them, too.
+    return isinstance(letter, str) and len(letter) == 1 and letter in letters and is_integer(exponent)
+
+
+def _pair_of(sign):
+    return (sign, 1) if sign.islower() else (sign.lower(), -1)
+
+
+def _signs(letter, exponent):
+    return letter * exponent if exponent > 0 else letter.upper() * -exponent

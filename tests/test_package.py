@@ -1,6 +1,7 @@
 """The interface's names, and the rules of the language that can be counted."""
 
 import ast
+import builtins
 import pathlib
 import unittest
 
@@ -24,7 +25,52 @@ INTERFACE = {
             "__mul__", "__invert__", "power", "turned", "bracket", "shortest", "over",
         ),
     },
+    "signedcounts/pattern/leading.py": {
+        "is_leading": ["letters", "value"], "factors": ["letters", "pattern"], "halves": ["letters", "pattern"],
+        "patterns_of": ["letters", "depth"], "leading_of": ["letters", "depth"], "how_many": ["letters", "size"],
+    },
+    "signedcounts/count/counts.py": {
+        "count": ["word", "pattern"], "beginnings": ["word", "pattern"], "binomial": ["number", "size"],
+        "scattered": ["letters", "text", "pattern"],
+    },
+    "signedcounts/table/tables.py": {
+        "Table": (
+            "__init__", "of", "unit", "letters", "depth", "entries", "__getitem__", "__len__", "__eq__", "__str__",
+            "__mul__", "__invert__", "power", "cut", "with_entry",
+        ),
+    },
+    "signedcounts/table/overlays.py": {
+        "overlays": ["letters", "one", "other"], "rule_sum": ["table", "one", "other"],
+        "does_follow": ["table", "one", "other"],
+    },
+    "signedcounts/table/truth.py": {
+        "is_true": ["table"], "first_fault": ["table"], "is_fault": ["table", "value"], "mended": ["table"],
+        "paper": ["table"], "is_paper": ["table", "value"],
+    },
+    "signedcounts/table/brackets.py": {
+        "bracket_of": ["letters", "pattern"], "exponents": ["table"], "by_exponents": ["letters", "depth", "numbers"],
+        "leading_values": ["table"], "by_leading": ["letters", "depth", "numbers"], "word_of": ["table"],
+    },
+    "signedcounts/word/apart.py": {
+        "level": ["word", "depth"], "first_difference": ["one", "other", "depth"], "run_pattern": ["one", "other"],
+        "image": ["word", "pattern", "modulus"], "parting": ["one", "other"], "is_parting": ["one", "other", "value"],
+    },
+    "signedcounts/power/far.py": {
+        "growth": ["table", "pattern"], "moments": ["table", "pattern", "value"], "exponent": ["table", "other"],
+        "far_count": ["word", "number", "pattern"],
+    },
 }
+
+BUILTINS = set((
+    "len range enumerate zip min max sum abs sorted reversed int str bool list tuple dict set isinstance ord repr any "
+    "all divmod iter ValueError KeyError IndexError LookupError ArithmeticError OverflowError TypeError property classmethod "
+    "staticmethod"
+).split())
+METHODS = set((
+    "append clear copy count endswith extend find get index insert isalnum isalpha isdigit islower isspace isupper "
+    "items join keys ljust lower lstrip partition pop remove replace reverse rfind rjust rpartition rsplit rstrip "
+    "setdefault split splitlines startswith strip update upper values zfill bit_length"
+).split())
 
 
 def sources():
@@ -77,6 +123,72 @@ class Language(unittest.TestCase):
                 if isinstance(node, ast.ImportFrom):
                     self.assertEqual(node.level, 0, path)
                     self.assertIn(node.module.split(".")[0], ("signedcounts",) + LIBRARY, path)
+
+    def test_names_of_python(self):
+        known = {name for name in dir(builtins) if not name.startswith("__")}
+        for path, tree in trees():
+            for node in ast.walk(tree):
+                if isinstance(node, ast.Name) and node.id in known - BUILTINS:
+                    self.fail((path, node.lineno, node.id))
+                if isinstance(node, ast.arg) or isinstance(node, ast.Name) and isinstance(node.ctx, ast.Store):
+                    self.assertNotIn(node.arg if isinstance(node, ast.arg) else node.id, known, path)
+
+    def test_methods(self):
+        own = {"__init__"}
+        for path, tree in trees():
+            own |= {node.name for node in ast.walk(tree) if isinstance(node, ast.FunctionDef)}
+        for path, tree in trees():
+            for node in ast.walk(tree):
+                if isinstance(node, ast.Call) and isinstance(node.func, ast.Attribute):
+                    self.assertIn(node.func.attr, METHODS | own, (path, node.lineno))
+                    if node.func.attr in METHODS:
+                        self.assertEqual(node.keywords, [], (path, node.lineno))
+
+    def test_names_of_imports_are_not_used_again(self):
+        for path, tree in trees():
+            taken = {node.name for node in ast.walk(tree) if isinstance(node, ast.ClassDef)}
+            for node in ast.walk(tree):
+                if isinstance(node, ast.ImportFrom):
+                    self.assertEqual(len(node.names), 1, (path, node.lineno))
+                    self.assertIs(node.names[0].asname, None, (path, node.lineno))
+                    taken.add(node.names[0].name)
+            for node in ast.walk(tree):
+                if isinstance(node, ast.arg):
+                    self.assertNotIn(node.arg, taken, path)
+                elif isinstance(node, ast.Name) and isinstance(node.ctx, ast.Store):
+                    self.assertNotIn(node.id, taken, (path, node.lineno))
+
+    def test_statements(self):
+        barred = (ast.Global, ast.Nonlocal, ast.AugAssign, ast.Try, ast.With, ast.Lambda, ast.Set, ast.SetComp)
+        for path, tree in trees():
+            for node in ast.walk(tree):
+                # The package needs none of these, and the rules for them are long.
+                self.assertNotIsInstance(node, barred, (path, getattr(node, "lineno", 0)))
+                if isinstance(node, ast.Compare):
+                    for sign, right in zip(node.ops, node.comparators):
+                        if isinstance(sign, (ast.Is, ast.IsNot)):
+                            self.assertIs(right.value, None, (path, node.lineno))
+                if isinstance(node, ast.BinOp) and isinstance(node.op, ast.Pow):
+                    self.assertIsInstance(node.right, ast.Constant, (path, node.lineno))
+
+    def test_all_imports_are_used(self):
+        for path, tree in trees():
+            read = {node.id for node in ast.walk(tree) if isinstance(node, ast.Name)}
+            for node in ast.walk(tree):
+                if isinstance(node, ast.ImportFrom):
+                    self.assertIn(node.names[0].name, read, path)
+
+    def test_no_circles(self):
+        ahead = {}
+        for path, tree in trees():
+            name = ".".join(path.relative_to(ROOT).with_suffix("").parts)
+            ahead[name] = {node.module for node in ast.walk(tree) if isinstance(node, ast.ImportFrom)} & set(
+                ".".join(other.relative_to(ROOT).with_suffix("").parts) for other in sources())
+        while ahead:
+            free = [name for name in ahead if not ahead[name] & set(ahead)]
+            self.assertNotEqual(free, [])
+            for name in free:
+                del ahead[name]
 
     def test_no_generator_expressions_floats_and_divisions(self):
         # Generator expressions are barred where a class of the package has __eq__.

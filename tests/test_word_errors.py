@@ -3,34 +3,14 @@
 import unittest
 
 from signedcounts.base.names import is_letters, is_text
-from signedcounts.errors import (
-    InvalidLetters, InvalidNumber, InvalidOperation, InvalidText, InvalidWord, TooMany,
-)
+from signedcounts.errors import InvalidLetters, InvalidOperation, InvalidText, InvalidWord
 from signedcounts.word.words import Word
+from checks import Refusals
 from values import FAR, LONGEST, SWAP, TOO_LONG, TWO, all_but, all_kinds, alternating, is_word, shown
 
 FULL = Word("ab", alternating(200))
 EMPTY = Word("ab", ())
 THREE = Word.of("abc", "abC")
-
-
-class Refusals(unittest.TestCase):
-    def refused(self, kind, call, *values):
-        """The error, which is of just this class, while the arguments stay as they are."""
-        before = [shown(value) for value in values]
-        with self.assertRaises(kind) as caught:
-            call(*values)
-        self.assertIs(caught.exception.__class__, kind)
-        self.assertEqual([shown(value) for value in values], before)
-        return caught.exception
-
-    def refused_number(self, call, value):
-        error = self.refused(InvalidNumber, call, value)
-        self.assertEqual(shown(error.value), shown(value))
-        self.assertEqual(str(error), repr(value))
-
-    def refused_many(self, limit, call, *values):
-        self.assertEqual(self.refused(TooMany, call, *values).limit, limit)
 
 
 class Making(Refusals):

@@ -6,9 +6,7 @@ import unittest
 from signedcounts.errors import TooMany
 from signedcounts.word import words
 from signedcounts.word.words import Word
-from values import FAR, LONGEST, SWAP, TWO, all_but, all_kinds, alternating, reduced_text
-
-TEXTS = ["".join(signs) for count in range(5) for signs in itertools.product("abAB", repeat=count)]
+from values import FAR, LONGEST, SWAP, TEXTS, TWO, all_but, all_kinds, alternating, reduced_text
 
 
 class Examples(unittest.TestCase):

@@ -1,6 +1,10 @@
-"""Values that the tests pass: wrong ones of each kind, and the words of the examples."""
+"""Values that the tests pass: wrong ones of each kind, and the words and tables of the examples."""
+
+import itertools
+import random
 
 from signedcounts import errors
+from signedcounts.table.tables import Table
 from signedcounts.word.words import Word
 
 LONGEST = 10 ** 200 - 1
@@ -9,6 +13,12 @@ TOO_LONG = 10 ** 200
 SWAP = Word.of("ab", "abAB")
 TWO = Word.of("ab", "aab")
 FAR = Word("ab", (("a", 10 ** 30), ("b", -2)))
+EMPTY = Word("ab", ())
+LONG = Word("ab", (("a", LONGEST), ("b", -LONGEST), ("a", 3 - LONGEST)))
+ODD = Table("ab", 2, (1, 1, 0, 0, 0, 0))
+# It follows the rule for all pairs with a pattern of one letter, and is not true.
+SLY = Table.unit("ab", 4).with_entry("abab", 1).with_entry("abba", -1).with_entry("baab", -1).with_entry("baba", 1)
+TEXTS = ["".join(signs) for size in range(5) for signs in itertools.product("abAB", repeat=size)]
 
 
 def nested(kind, depth):
@@ -43,7 +53,11 @@ def all_kinds():
     lists = [[], [[]], [1], ["a", "b"], ["a", 1], [("a", 1)], [["a", 1]], nested(list, 10)]
     dicts = [{}, {"a": 1}, {1: "a"}, {"a": {}}, {("a", 1): [1]}, nested(dict, 10)]
     words = [Word("a", ()), Word("ab", ()), SWAP, TWO, FAR, Word.of("abc", "abC"), Word.of("z", "z")]
-    return numbers + plain + strings + tuples + lists + dicts + words + error_objects()
+    tables = [
+        Table.unit("a", 1), Table.unit("ab", 5), Table.of(SWAP, 3), ODD, Table("ab", 2, (LONGEST,) * 6).power(2),
+        Table.of(Word.of("abc", "abC"), 2),
+    ]
+    return numbers + plain + strings + tuples + lists + dicts + words + tables + error_objects()
 
 
 def all_but(is_right):
@@ -55,10 +69,21 @@ def is_word(value):
     return isinstance(value, Word)
 
 
+def is_table(value):
+    return isinstance(value, Table)
+
+
+def within(least, most):
+    """Whether a value is an integer from the least one to the greatest one."""
+    return lambda value: value.__class__ is int and least <= value <= most
+
+
 def shown(value):
     """What is seen of a value, so that values can be compared before and after calls."""
     if isinstance(value, Word):
         return ("word", value.letters, value.runs, value.size, len(value), list(value), str(value))
+    if isinstance(value, Table):
+        return ("table", value.letters, value.depth, value.entries, len(value), str(value))
     if isinstance(value, BaseException):
         return ("error", value.__class__, str(value), {key: shown(vars(value)[key]) for key in vars(value)})
     if isinstance(value, (list, tuple)):
@@ -74,6 +99,40 @@ def reduced_text(text):
     for sign in text:
         left = left[:-1] if left and left[-1] == sign.swapcase() else left + sign
     return left
+
+
+def slow_table(letters, text, depth):
+    """The counts of the word of a text, sign by sign, as a dict by the patterns."""
+    patterns = ["".join(signs) for size in range(depth + 1) for signs in itertools.product(letters, repeat=size)]
+    counts = {pattern: int(pattern == "") for pattern in patterns}
+    for sign in text:
+        told = {}
+        for pattern in patterns:
+            told[pattern] = counts[pattern]
+            if pattern.endswith(sign):
+                told[pattern] += counts[pattern[:-1]]
+            elif pattern.endswith(sign.lower()):
+                # What is undone here is what would come of it with the letter behind it.
+                told[pattern] -= told[pattern[:-1]]
+        counts = told
+    return counts
+
+
+def some_words(letters, many, seed, most=8, exponents=(-3, -2, -1, 1, 2, 3)):
+    """So many words with up to so many runs, the same ones for each seed."""
+    source = random.Random(seed)
+    told = []
+    for _ in range(many):
+        size = source.randrange(most + 1)
+        told.append(Word(letters, tuple((source.choice(letters), source.choice(exponents)) for _ in range(size))))
+    return told
+
+
+def some_tables(letters, depth, many, seed, least=-4, most=4):
+    """So many tables, most of which are not true, the same ones for each seed."""
+    source = random.Random(seed)
+    size = len(Table.unit(letters, depth))
+    return [Table(letters, depth, tuple(source.randint(least, most) for _ in range(size))) for _ in range(many)]
 
 
 def alternating(count, letters="ab", exponent=1):

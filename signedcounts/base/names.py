@@ -1,6 +1,8 @@
 """Integers, names, letters, texts and patterns."""
 
 from signedcounts.errors import InvalidLetters
+from signedcounts.errors import InvalidNumber
+from signedcounts.errors import InvalidPattern
 
 MAX_NAME = 8
 MAX_DIGITS = 200
@@ -46,10 +48,38 @@ def is_pattern(letters, value):
     return _is_string(value, 0, MAX_PATTERN) and _has_only(value, letters)
 
 
+def are_integers(value, many):
+    """Whether the value is a tuple of just so many integers."""
+    return isinstance(value, tuple) and len(value) == many and all([is_integer(part) for part in value])
+
+
 def check_letters(value):
     """Refuse a value that is no letters."""
     if not is_letters(value):
         raise InvalidLetters("letters are one to three different letters a to z, ascending")
+
+
+def check_pattern(letters, value):
+    """Refuse letters that are none, and then a value that is no pattern of them."""
+    if not is_pattern(letters, value):
+        raise InvalidPattern(f"a pattern has at most {MAX_PATTERN} signs, the letters alone")
+
+
+def check_integer(value):
+    """Refuse a value that is no integer."""
+    if not is_integer(value):
+        raise InvalidNumber(value)
+
+
+def check_number(value, least, most):
+    """Refuse a value that is no integer from the least one to the greatest one."""
+    if not is_integer(value) or not least <= value <= most:
+        raise InvalidNumber(value)
+
+
+def check_depth(value):
+    """Refuse a value that is no depth."""
+    check_number(value, 1, MAX_DEPTH)
 
 
 def _is_string(value, least, most):

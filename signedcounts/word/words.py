@@ -2,6 +2,7 @@
 
 from signedcounts.base.names import MAX_TEXT
 from signedcounts.base.names import check_letters
+from signedcounts.base.names import check_number
 from signedcounts.base.names import is_integer
 from signedcounts.base.names import is_text
 from signedcounts.errors import InvalidNumber
@@ -22,7 +23,7 @@ class Word:
         if not _are_pairs(letters, runs):
             raise InvalidOperation("runs are a tuple of pairs of a letter and an integer")
         self._letters = letters
-        self._runs = _within_limit(_reduced(runs))
+        self._runs = _within_limit(reduced(runs))
 
     @classmethod
     def of(cls, letters, text):
@@ -70,27 +71,28 @@ class Word:
     def __mul__(self, other):
         if not isinstance(other, Word) or other._letters != self._letters:
             raise InvalidOperation("the other operand is no word with the same letters")
-        return _made(self._letters, self._runs + other._runs)
+        return word_of_runs(self._letters, self._runs + other._runs)
 
     def __invert__(self):
-        return _made(self._letters, _undone(self._runs))
+        return word_of_runs(self._letters, undone(self._runs))
 
     def power(self, number):
         """So many of the word one behind the other, or of it undone."""
-        if not is_integer(number) or abs(number) > MAX_POWER:
-            raise InvalidNumber(number)
-        runs = self._runs if number >= 0 else _undone(self._runs)
-        return _made(self._letters, runs * abs(number))
+        check_number(number, -MAX_POWER, MAX_POWER)
+        runs = self._runs if number >= 0 else undone(self._runs)
+        return word_of_runs(self._letters, runs * abs(number))
 
     def turned(self, other):
         """The word with the other one ahead and this one undone behind it."""
-        _check_other(self, other)
-        return _made(self._letters, other._runs + self._runs + _undone(other._runs))
+        check_word(other)
+        check_same_letters(self, other)
+        return word_of_runs(self._letters, other._runs + self._runs + undone(other._runs))
 
     def bracket(self, other):
         """The word, the other one, and both undone, one behind the other."""
-        _check_other(self, other)
-        return _made(self._letters, self._runs + other._runs + _undone(self._runs) + _undone(other._runs))
+        check_word(other)
+        check_same_letters(self, other)
+        return word_of_runs(self._letters, self._runs + other._runs + undone(self._runs) + undone(other._runs))
 
     def shortest(self):
         """The shortest text."""
@@ -103,18 +105,30 @@ class Word:
         check_letters(letters)
         if not all([letter in letters for letter in self._letters]):
             raise InvalidOperation("the letters of the word are not among these")
-        return _made(letters, self._runs)
+        return word_of_runs(letters, self._runs)
 
 
-def _made(letters, pairs):
+def check_word(value):
+    """Refuse a value that is no word."""
+    if not isinstance(value, Word):
+        raise InvalidWord("this is no word")
+
+
+def check_same_letters(one, other):
+    """Refuse two words with unlike letters."""
+    if one.letters != other.letters:
+        raise InvalidOperation("the two words have unlike letters")
+
+
+def word_of_runs(letters, pairs):
     """The word of pairs that come of words: their integers can be longer than passed ones."""
-    runs = _within_limit(_reduced(pairs))
+    runs = _within_limit(reduced(pairs))
     word = Word(letters, ())
     word._runs = runs
     return word
 
 
-def _reduced(pairs):
+def reduced(pairs):
     """The runs that are left when neighbours with the same letter are put together."""
     found = []
     for letter, exponent in pairs:
@@ -133,15 +147,9 @@ def _within_limit(runs):
     return runs
 
 
-def _undone(runs):
+def undone(runs):
+    """The runs of the word undone."""
     return tuple([(letter, -exponent) for letter, exponent in runs[::-1]])
-
-
-def _check_other(word, other):
-    if not isinstance(other, Word):
-        raise InvalidWord("the other one is no word")
-    if other._letters != word._letters:
-        raise InvalidOperation("the two words have unlike letters")
 
 
 def _are_pairs(letters, value):

@@ -1,0 +1,1 @@
+"""Counts of patterns in words."""

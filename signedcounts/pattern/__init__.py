@@ -1,0 +1,1 @@
+"""Patterns in order, and the leading ones among them."""

@@ -1,0 +1,1 @@
+"""Powers of tables and of words, of any size."""

@@ -52,9 +52,9 @@ def scattered(letters, text, pattern):
     places = []
     while True:
         # No place is later than its latest one, so each beginning of a tuple can be gone on with.
-        for index in range(len(places), len(pattern)):
+        while len(places) < len(pattern):
             after = places[-1] + 1 if places else 0
-            places.append(text.find(pattern[index], after))
+            places.append(text.find(pattern[len(places)], after))
         yield tuple(places)
         after = -1
         while places and after < 0:

@@ -144,6 +144,19 @@ class Language(unittest.TestCase):
                     if node.func.attr in METHODS:
                         self.assertEqual(node.keywords, [], (path, node.lineno))
 
+    def test_nothing_that_an_object_holds_is_called(self):
+        # Operators and properties, and what they reach, call nothing that they are passed or hold. A call
+        # by the name of any attribute could be one, so no call has such a name.
+        held, called = set(), set()
+        for path, tree in trees():
+            for node in ast.walk(tree):
+                if isinstance(node, ast.Attribute) and isinstance(node.ctx, ast.Store):
+                    held.add(node.attr)
+                elif isinstance(node, ast.Call) and isinstance(node.func, ast.Attribute):
+                    called.add(node.func.attr)
+        self.assertIn("index", held)
+        self.assertEqual(held & called, set())
+
     def test_names_of_imports_are_not_used_again(self):
         for path, tree in trees():
             taken = {node.name for node in ast.walk(tree) if isinstance(node, ast.ClassDef)}

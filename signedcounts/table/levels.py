@@ -15,7 +15,7 @@ def place(letters, pattern):
     """The index of a pattern among all patterns, in order, from the empty one on."""
     index = 0
     for letter in pattern:
-        index = index * len(letters) + letters.index(letter) + 1
+        index = index * len(letters) + letters.find(letter) + 1
     return index
 
 
@@ -71,11 +71,12 @@ def raised(levels, number):
 
 def levels_of_run(letters, depth, letter, exponent):
     """The levels of the table of a word of one run."""
-    found = unit_levels(len(letters), depth)
-    row = binomials(exponent, depth)
-    for size in range(1, depth + 1):
-        index = place(letters, letter * size) - place(letters, letters[0] * size)
-        found[size][index] = row[size]
+    found = [[1]]
+    index = 0
+    for ways in binomials(exponent, depth)[1:]:
+        index = index * len(letters) + letters.find(letter)
+        behind = len(found[-1]) * len(letters) - index - 1
+        found.append([0] * index + [ways] + [0] * behind)
     return found
 
 

@@ -59,6 +59,44 @@ INTERFACE = {
         "growth": ["table", "pattern"], "moments": ["table", "pattern", "value"], "exponent": ["table", "other"],
         "far_count": ["word", "number", "pattern"],
     },
+    "signedcounts/power/roots.py": {
+        "root": ["table", "number"], "greatest_root": ["table"], "root_paper": ["table", "number"],
+        "is_root_paper": ["table", "number", "value"],
+    },
+    "signedcounts/turn/commuting.py": {
+        "table_level": ["table"], "do_commute": ["one", "other"], "core": ["table"],
+        "commuting_parts": ["table", "other"], "do_words_commute": ["one", "other"], "word_root": ["word"],
+    },
+    "signedcounts/turn/turned.py": {
+        "are_turned": ["one", "other"], "turner": ["one", "other"], "is_turner": ["one", "other", "value"],
+        "shifts": ["table", "size"], "turn_paper": ["one", "other"], "is_turn_paper": ["one", "other", "value"],
+        "word_turner": ["one", "other"],
+    },
+    "signedcounts/club/clubs.py": {
+        "Club": (
+            "__init__", "letters", "depth", "rows", "parts", "__contains__", "__len__", "__eq__", "__str__", "numbers",
+            "joined", "turned", "is_within", "is_kept",
+        ),
+    },
+    "signedcounts/lead/leads.py": {
+        "Lead": (
+            "__init__", "letters", "onto", "determinant", "__call__", "__getitem__", "__len__", "__eq__", "__str__",
+            "__mul__",
+        ),
+        "weights": ["lead", "pattern"], "origin": ["lead", "table"],
+    },
+    "signedcounts/desk/desk.py": {
+        "Desk": (
+            "__init__", "put", "take", "join", "turn", "cross", "flip", "lead_all", "deepen", "table", "counted",
+            "club", "alike", "crossing", "undo", "redo", "trial", "during", "twin", "letters", "depth", "names",
+            "__getitem__", "__contains__", "__len__", "__iter__", "__eq__", "__str__",
+        ),
+    },
+    "signedcounts/text/formats.py": {
+        "write_word": ["word"], "write_table": ["table"], "write_lead": ["lead"], "write_value": ["value"],
+        "read_word": ["text"], "read_table": ["text"], "read_lead": ["text"], "read_value": ["text"],
+    },
+    "signedcounts/text/shell.py": {"Shell": ("__init__", "desk", "__call__", "answer")},
 }
 
 BUILTINS = set((
@@ -172,7 +210,7 @@ class Language(unittest.TestCase):
                     self.assertNotIn(node.id, taken, (path, node.lineno))
 
     def test_statements(self):
-        barred = (ast.Global, ast.Nonlocal, ast.AugAssign, ast.Try, ast.With, ast.Lambda, ast.Set, ast.SetComp)
+        barred = (ast.Global, ast.Nonlocal, ast.AugAssign, ast.Lambda, ast.Set, ast.SetComp)
         for path, tree in trees():
             for node in ast.walk(tree):
                 # The package needs none of these, and the rules for them are long.
@@ -183,6 +221,17 @@ class Language(unittest.TestCase):
                             self.assertIs(right.value, None, (path, node.lineno))
                 if isinstance(node, ast.BinOp) and isinstance(node.op, ast.Pow):
                     self.assertIsInstance(node.right, ast.Constant, (path, node.lineno))
+
+    def test_handlers(self):
+        own = set(INTERFACE["signedcounts/errors.py"])
+        for path, tree in trees():
+            for node in ast.walk(tree):
+                if isinstance(node, ast.Try):
+                    self.assertEqual(node.finalbody, [], path)
+                    names = [handler.name for handler in node.handlers if handler.name is not None]
+                    self.assertEqual(len(set(names)), len(names), path)
+                    for handler in node.handlers:
+                        self.assertIn(handler.type.id, own, path)
 
     def test_all_imports_are_used(self):
         for path, tree in trees():

@@ -4,7 +4,13 @@ import itertools
 import random
 
 from signedcounts import errors
+from signedcounts.club.clubs import Club
+from signedcounts.desk.desk import Desk
+from signedcounts.lead.leads import Lead
+from signedcounts.pattern.leading import leading_of
+from signedcounts.table.brackets import by_exponents
 from signedcounts.table.tables import Table
+from signedcounts.text.shell import Shell
 from signedcounts.word.words import Word
 
 LONGEST = 10 ** 200 - 1
@@ -18,6 +24,11 @@ LONG = Word("ab", (("a", LONGEST), ("b", -LONGEST), ("a", 3 - LONGEST)))
 ODD = Table("ab", 2, (1, 1, 0, 0, 0, 0))
 # It follows the rule for all pairs with a pattern of one letter, and is not true.
 SLY = Table.unit("ab", 4).with_entry("abab", 1).with_entry("abba", -1).with_entry("baab", -1).with_entry("baba", 1)
+A, B = Word.of("ab", "a"), Word.of("ab", "b")
+LEAN = Table.of(Word.of("ab", "aaabAB"), 2)
+TWICE = Table.of(A.power(2), 2)
+SLIDE = Lead("ab", {"a": Word.of("ab", "ab"), "b": B})
+DOUBLE = Lead("ab", {"a": A.power(2), "b": B})
 TEXTS = ["".join(signs) for size in range(5) for signs in itertools.product("abAB", repeat=size)]
 
 
@@ -57,7 +68,21 @@ def all_kinds():
         Table.unit("a", 1), Table.unit("ab", 5), Table.of(SWAP, 3), ODD, Table("ab", 2, (LONGEST,) * 6).power(2),
         Table.of(Word.of("abc", "abC"), 2),
     ]
-    return numbers + plain + strings + tuples + lists + dicts + words + tables + error_objects()
+    others = [
+        Club("ab", 2, (LEAN,)), Club("abc", 1, ()), SLIDE, Lead("a", {"a": Word.of("xyz", "xY")}), some_desk(),
+        Shell("ab", 2),
+    ]
+    return numbers + plain + strings + tuples + lists + dicts + words + tables + others + error_objects()
+
+
+def some_desk():
+    """A desk with two words, of whose calls one is undone."""
+    desk = Desk("ab", 2)
+    desk.put("one", TWO)
+    desk.put("two", A)
+    desk.cross("one", "two")
+    desk.undo()
+    return desk
 
 
 def all_but(is_right):
@@ -73,6 +98,14 @@ def is_table(value):
     return isinstance(value, Table)
 
 
+def is_lead(value):
+    return isinstance(value, Lead)
+
+
+def is_club(value):
+    return isinstance(value, Club)
+
+
 def within(least, most):
     """Whether a value is an integer from the least one to the greatest one."""
     return lambda value: value.__class__ is int and least <= value <= most
@@ -84,6 +117,16 @@ def shown(value):
         return ("word", value.letters, value.runs, value.size, len(value), list(value), str(value))
     if isinstance(value, Table):
         return ("table", value.letters, value.depth, value.entries, len(value), str(value))
+    if isinstance(value, Club):
+        return ("club", value.letters, value.depth, value.rows, value.parts, len(value), str(value))
+    if isinstance(value, Lead):
+        words = [shown(value[letter]) for letter in value.letters]
+        return ("lead", value.letters, value.onto, value.determinant, len(value), str(value), words)
+    if isinstance(value, Desk):
+        words = [(name, shown(value[name])) for name in value]
+        return ("desk", value.letters, value.depth, value.names, len(value), str(value), words, calls_of(value))
+    if isinstance(value, Shell):
+        return ("shell", shown(value.desk()))
     if isinstance(value, BaseException):
         return ("error", value.__class__, str(value), {key: shown(vars(value)[key]) for key in vars(value)})
     if isinstance(value, (list, tuple)):
@@ -91,6 +134,17 @@ def shown(value):
     if isinstance(value, dict):
         return (dict, [(key, shown(value[key])) for key in value])
     return (value.__class__, value)
+
+
+def calls_of(desk):
+    """How many calls can be undone, and how many done again."""
+    twin = desk.twin()
+    undone = twin.undo(many=0)
+    while True:
+        try:
+            twin.redo()
+        except errors.NothingToUndo:
+            return undone, twin.undo(many=0) - undone
 
 
 def reduced_text(text):
@@ -133,6 +187,16 @@ def some_tables(letters, depth, many, seed, least=-4, most=4):
     source = random.Random(seed)
     size = len(Table.unit(letters, depth))
     return [Table(letters, depth, tuple(source.randint(least, most) for _ in range(size))) for _ in range(many)]
+
+
+def true_tables(letters, depth, many, seed, least=1, most=4):
+    """So many true tables whose exponents at patterns of less than so many letters are 0."""
+    source = random.Random(seed)
+    leading = leading_of(letters, depth)
+    return [
+        by_exponents(letters, depth, tuple(source.randint(-most, most) * (len(p) >= least) for p in leading))
+        for _ in range(many)
+    ]
 
 
 def alternating(count, letters="ab", exponent=1):

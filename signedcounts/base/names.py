@@ -9,19 +9,19 @@ MAX_DIGITS = 200
 MAX_TEXT = 4000
 MAX_PATTERN = 400
 MAX_DEPTH = 5
+# The greatest integer of MAX_DIGITS digits. Comparing with it takes no text of
+# the integer, which Python refuses to write if the integer is very long.
+MAX_INTEGER = 10 ** 50 * 10 ** 50 * 10 ** 50 * 10 ** 50 - 1
 
 _MAX_LETTERS = 3
 _ALPHABET = "abcdefghijklmnopqrstuvwxyz"
-# The least integer of more than MAX_DIGITS digits. Comparing with it takes no
-# text of the integer, which Python refuses to write if the integer is very long.
-_TOO_LONG = 10 ** 50 * 10 ** 50 * 10 ** 50 * 10 ** 50
 
 
 def is_integer(value):
     """Whether the value is an integer of at most MAX_DIGITS digits, and no boolean."""
     if not isinstance(value, int) or isinstance(value, bool):
         return False
-    return -_TOO_LONG < value < _TOO_LONG
+    return -MAX_INTEGER <= value <= MAX_INTEGER
 
 
 def is_name(value):

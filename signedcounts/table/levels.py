@@ -19,6 +19,25 @@ def place(letters, pattern):
     return index
 
 
+def entry_at(levels, letters, pattern):
+    """The number at a pattern."""
+    first = place(letters, letters[0] * len(pattern))
+    return levels[len(pattern)][place(letters, pattern) - first]
+
+
+def leading_entries(letters, levels):
+    """The numbers at the leading patterns, in order."""
+    return [entry_at(levels, letters, pattern) for pattern in leading_of(letters, len(levels) - 1)]
+
+
+def first_filled(levels):
+    """The least number of letters, at least 1, of a pattern at which the number is not 0, or None."""
+    for size in range(1, len(levels)):
+        if any(levels[size]):
+            return size
+    return None
+
+
 def to_levels(entries, many, depth):
     """The levels of a table with so many letters."""
     found = [[1]]
@@ -120,11 +139,22 @@ def exponents_and_levels(letters, depth, wanted):
     for pattern, entry in zip(leading_of(letters, depth), wanted):
         # A bracket has 1 at its own pattern and 0 at all leading ones ahead of it, so
         # each factor changes no entry that is right already.
-        index = place(letters, pattern) - place(letters, letters[0] * len(pattern))
-        number = entry - found[len(pattern)][index]
+        number = entry - entry_at(found, letters, pattern)
         found = times(found, raised(brackets[pattern], number))
         numbers.append(number)
     return tuple(numbers), found
+
+
+def lengthened(letters, depth, levels):
+    """The levels of the true table of this depth which is, cut, the true table with these levels.
+
+    Its exponents at longer leading patterns are 0.
+    """
+    if len(levels) == 1:
+        return unit_levels(len(letters), depth)
+    numbers = exponents_and_levels(letters, len(levels) - 1, leading_entries(letters, levels))[0]
+    rest = len(leading_of(letters, depth)) - len(numbers)
+    return levels_of_exponents(letters, depth, numbers + (0,) * rest)
 
 
 def _level_of_ways(one, other, size, least):

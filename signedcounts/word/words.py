@@ -23,7 +23,7 @@ class Word:
         if not _are_pairs(letters, runs):
             raise InvalidOperation("runs are a tuple of pairs of a letter and an integer")
         self._letters = letters
-        self._runs = _within_limit(reduced(runs))
+        self._runs = within_limit(reduced(runs))
 
     @classmethod
     def of(cls, letters, text):
@@ -122,7 +122,7 @@ def check_same_letters(one, other):
 
 def word_of_runs(letters, pairs):
     """The word of pairs that come of words: their integers can be longer than passed ones."""
-    runs = _within_limit(reduced(pairs))
+    runs = within_limit(reduced(pairs))
     word = Word(letters, ())
     word._runs = runs
     return word
@@ -141,7 +141,8 @@ def reduced(pairs):
     return tuple(found)
 
 
-def _within_limit(runs):
+def within_limit(runs):
+    """The runs, unless they are too many for a word."""
     if len(runs) > MAX_RUNS:
         raise TooMany(MAX_RUNS)
     return runs

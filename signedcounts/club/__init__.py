@@ -1,0 +1,1 @@
+"""Clubs of tables."""

@@ -1,0 +1,1 @@
+"""Letters led to words."""

@@ -1,0 +1,1 @@
+"""What commutes, and what is turned into what."""

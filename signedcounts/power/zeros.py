@@ -39,7 +39,7 @@ def _least(sums, places):
 
 def _ranges_within(sums, limit):
     """Ranges, as their first and last integers, with all places at which no sum is beyond the limit."""
-    ordered = sorted([(len(parts), parts) for parts in [_without_zeros(parts) for parts in sums]])
+    ordered = sorted([_with_size(parts) for parts in sums])
     ranges = None
     for size, parts in ordered:
         if size > 1:
@@ -68,11 +68,12 @@ def _parts_within(ranges, parts, limit):
     return found
 
 
-def _without_zeros(parts):
+def _with_size(parts):
+    """The parts without zeros at their end, and ahead of them their number."""
     found = list(parts)
     while len(found) > 1 and found[-1] == 0:
         found.pop()
-    return found
+    return len(found), found
 
 
 def _turns(parts):

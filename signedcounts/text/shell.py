@@ -44,7 +44,7 @@ class Shell:
         return self.answer(line)
 
     def __repr__(self):
-        return f"<shell over a {self._desk}>"
+        return f"<shell over {self._desk.letters}>"
 
     def desk(self):
         """A twin of the desk."""

@@ -39,15 +39,11 @@ def parted(rows, row, hints):
     modulus may have a divisor.
     """
     order = _order(rows, row)
-    small = _small_modulus(rows, row, order)
-    if small > 0:
-        return _numbers_for(rows, row, small), small
-    found = []
-    for hint in hints + [one[_first(one, len(one))] for one in rows] + [order]:
-        base = gcd(order, hint)
-        if base > 1:
-            found.append(_modulus_of(rows, row, base))
-    modulus = min(found)
+    modulus = _small_modulus(rows, row, order)
+    if modulus == 0:
+        tries = hints + [one[_first(one, len(one))] for one in rows] + [order]
+        bases = {gcd(order, number): True for number in tries}
+        modulus = min([_modulus_of(rows, row, base) for base in bases if base > 1])
     return _numbers_for(rows, row, modulus), modulus
 
 
@@ -139,18 +135,33 @@ def _small_modulus(rows, row, order):
     """The least small modulus that parts the row from the sums, or 0; one is found if the order is 0."""
     modulus = 2
     while order == 0 or modulus <= _SMALL:
-        if gcd(order, modulus) > 1 and not _is_within(rows, row, modulus):
+        if gcd(order, modulus) > 1 and _is_prime_power(modulus) and not _is_within(rows, row, modulus):
             return modulus
         modulus = modulus + 1
     return 0
 
 
+def _is_prime_power(number):
+    prime = 2
+    while number % prime != 0:
+        prime = prime + 1
+    rest = number
+    while rest % prime == 0:
+        rest = rest // prime
+    return rest == 1
+
+
 def _modulus_of(rows, row, base):
     """The least power of a base that parts the row from the sums."""
-    modulus = base
-    while _is_within(rows, row, modulus):
-        modulus = modulus * base
-    return modulus
+    powers = [base]
+    while _is_within(rows, row, powers[-1]):
+        powers.append(powers[-1] * powers[-1])
+    # Each power by which the row is no more than a sum is put together of these squares.
+    found = 1
+    for power in powers[-2::-1]:
+        if _is_within(rows, row, found * power):
+            found = found * power
+    return found * base
 
 
 def _is_within(rows, row, modulus):

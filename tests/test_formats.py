@@ -284,7 +284,7 @@ class Values(Reading):
     def test_texts_of_no_value(self):
         for text in (
             "", " ", "(", ")", "( ", " )", "()", "( )  ", " ( )", "(  )", "( 1 )  ", "1 2", "1 ", " 1", "( ) ( )", ") (",
-            "( 1", "1 )", "( ( )", "( ) )", "=a b", "=a1", "= a", "=\u00e9", "a", "None", "NONE", "non", "( none none)",
+            "( 1", "1 )", "5 (", "5 ( 1", "( ) (", "( ( )", "( ) )", "=a b", "=a1", "= a", "=\u00e9", "a", "None", "NONE", "non", "( none none)",
             "true", "=-", "==a", "( =a\t=b )", "(1 )", "( 1)", "=a\r", "none none",
         ) + NO_INTEGERS:
             self.refused_at(0, read_value, text)

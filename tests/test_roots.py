@@ -161,6 +161,17 @@ class Papers(unittest.TestCase):
         for value in (("bar", "a", 2, 1), ("bar", "ab", 1, 2), ("bar", "a", 4, 2)):
             self.assertIs(is_root_paper(Table.of(TWO, 2).power(2), 2, value), False)
 
+    def test_the_other_word_and_other_entries(self):
+        even = Table.of(TWO, 2).power(2)
+        entries = Table.of(TWO, 2).entries
+        self.assertIs(is_root_paper(even, 2, ("root", entries)), True)
+        for value in (("bar", entries), ("", entries), (True, entries), ("root", (2, 1, 1, 2, 0, 1)), ("root", even.entries)):
+            self.assertIs(is_root_paper(even, 2, value), False)
+        # There is no root by 2, but fractions that are made less have these integers.
+        table = Table.of(Word.of("ab", "aaab"), 1)
+        for entries in ((1, 0), (1, 1), (2, 0), (2, 1)):
+            self.assertIs(is_root_paper(table, 2, ("root", entries)), False)
+
     def test_true_is_not_one(self):
         table = Table.of(Word.of("ab", "aabb"), 1)
         self.assertIs(is_root_paper(table, 2, ("root", (1, 1))), True)
@@ -194,6 +205,7 @@ class Papers(unittest.TestCase):
                     right = word == "bar" and shown(value) == shown("ab")
                     self.assertIs(is_root_paper(table, 2, (word, value, 1, 2)), right)
                 self.assertIs(is_root_paper(table, 2, ("bar", "ab", value, 2)), shown(value) == shown(1))
+                self.assertIs(is_root_paper(table, 2, ("bar", "ab", 1, value)), shown(value) == shown(2))
 
     def test_the_papers_are_right(self):
         for table in tables():

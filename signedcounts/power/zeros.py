@@ -25,7 +25,7 @@ def zeros(parts):
 
 
 def place_within(sums, limit, tries):
-    """An integer for which no sum is beyond the limit, signs aside; one of those to try if there is none."""
+    """An integer for which no sum is beyond the limit, signs aside, if there is one; those to try come first."""
     most, place = _least(sums, tries)
     if most <= limit:
         return place

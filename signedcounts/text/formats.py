@@ -118,7 +118,7 @@ def _words_of(value, deep):
 
 def _values_of(line):
     """The values that the words of a line tell, one behind the other; none if they tell no values."""
-    # The values that are read so far, those within an open tuple in a list of their own.
+    # The values that are read so far; those within a tuple that has not ended are in a list of their own.
     left = [[]]
     for word in line.split(" "):
         if word == "(" and len(left) <= _MAX_NESTED:

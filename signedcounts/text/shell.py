@@ -88,7 +88,7 @@ class Shell:
     def _is_lead(self, words):
         """Whether each letter of the desk is there, in order, with a text behind it."""
         letters = list(self._desk.letters)
-        return words[::2] == letters and len(words) == 2 * len(letters) and _are_of(words[1::2], ("t" * len(letters),))
+        return words[::2] == letters and _are_of(words[1::2], ("t" * len(letters),))
 
     def _lead(self, words):
         letters = self._desk.letters

@@ -41,9 +41,9 @@ def parted(rows, row, hints):
     order = _order(rows, row)
     modulus = _small_modulus(rows, row, order)
     if modulus == 0:
-        tries = hints + [one[_first(one, len(one))] for one in rows] + [order]
-        bases = {gcd(order, number): True for number in tries}
-        modulus = min([_modulus_of(rows, row, base) for base in bases if base > 1])
+        pivots = [one[_first(one, len(one))] for one in rows]
+        bases = _bases(order, hints + pivots + [order])
+        modulus = min([_modulus_of(rows, row, base) for base in bases])
     return _numbers_for(rows, row, modulus), modulus
 
 
@@ -141,14 +141,33 @@ def _small_modulus(rows, row, order):
     return 0
 
 
-def _is_prime_power(number):
+def _least_prime(number):
+    """The least prime that divides a number of at least 2."""
     prime = 2
     while number % prime != 0:
         prime = prime + 1
+    return prime
+
+
+def _is_prime_power(number):
+    return _without_prime(number, _least_prime(number)) == 1
+
+
+def _without_prime(number, prime):
     rest = number
     while rest % prime == 0:
         rest = rest // prime
-    return rest == 1
+    return rest
+
+
+def _bases(order, numbers):
+    """Divisors of the order, greater than 1: the small primes, and what others have in common with it."""
+    small = [prime for prime in range(2, _SMALL + 1) if order % prime == 0 and _least_prime(prime) == prime]
+    rest = order
+    for prime in small:
+        rest = _without_prime(rest, prime)
+    found = {gcd(rest, number): True for number in numbers}
+    return small + [base for base in found if base > 1]
 
 
 def _modulus_of(rows, row, base):
@@ -156,7 +175,7 @@ def _modulus_of(rows, row, base):
     powers = [base]
     while _is_within(rows, row, powers[-1]):
         powers.append(powers[-1] * powers[-1])
-    # Each power by which the row is no more than a sum is put together of these squares.
+    # The greatest power that does not is put together of these squares.
     found = 1
     for power in powers[-2::-1]:
         if _is_within(rows, row, found * power):

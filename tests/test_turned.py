@@ -283,6 +283,17 @@ class Papers(unittest.TestCase):
             self.assertIs(is_turn_paper(one, other, ("apart", size, (1,), 2)), False)
             self.assertIs(is_turn_paper(one, other, ("apart", size, (1, 0), 2)), False)
 
+    def test_sizes_of_papers(self):
+        one, other = TWICE, Table.of(B, 2)
+        for size, right in ((1, True), (True, False), (2, False), (0, False), (3, False), ("1", False), (None, False)):
+            self.assertEqual(is_turn_paper(one, other, ("apart", size, (0, 1), 0)), right)
+        for table in (TWICE, Table.of(TWO, 4), Table.of(SWAP, 5), Table.unit("ab", 5), Table.unit("a", 1)):
+            for size in range(8):
+                for many in range(10):
+                    for modulus in (0, 2):
+                        value = ("apart", size, (1,) * many, modulus)
+                        self.assertIs(is_turn_paper(table, table, value), False)
+
     def test_modulus_of_zero(self):
         one, other = Table.of(SWAP, 2), Table.of(SWAP.power(3), 2)
         for numbers, modulus, right in (((1,), 0, True), ((-7,), 0, True), ((0,), 0, False), ((1,), 2, False), ((1,), 5, True)):
@@ -334,7 +345,10 @@ class Papers(unittest.TestCase):
     def test_turners(self):
         one = Table.of(A, 2)
         other = Table.of(A.turned(B), 2)
-        for value in (Table.of(B, 3), Table.of(B, 1), Table.of(B.over("abc"), 2), ODD, Table.of(B, 2).with_entry("aa", 1)):
+        for value in (
+            Table.of(B, 3), Table.of(B, 1), Table.of(B.over("abc"), 2), ODD, Table.of(B, 2).with_entry("aa", 1),
+            Table.of(Word.of("xy", "y"), 2), Table.of(Word.of("bc", "c"), 2), Table.of(A, 2), SWAP, B,
+        ):
             self.assertIs(is_turner(one, other, value), False)
         # It would turn, but is not true.
         sly = Table.of(B, 2).with_entry("bb", 7)
@@ -409,6 +423,7 @@ class Words(unittest.TestCase):
         far = Word("ab", (("a", LONGEST),)).power(400)
         self.check(far.turned(B), far.turned(~B))
         self.check(far, far * A, False)
+        self.check(far.turned(Word("ab", (("b", LONGEST),))), far.turned(Word("ab", (("b", -LONGEST),))))
 
     def test_alternating(self):
         word = Word("ab", alternating(198))

@@ -52,9 +52,9 @@ class Trial:
 class Desk:
     """Words of the same letters under names, and a depth.
 
-    A state of the desk is a depth and a dict of words, which never changes. All states that can be
-    come back to are kept in order; those ahead of the present one can be undone to, those behind
-    it done again.
+    A state of the desk is a depth and a dict of words, which never changes. All states that the
+    desk can come back to are kept in order: undoing goes to those ahead of the present one, doing
+    again to those behind it.
     """
 
     def __init__(self, letters, depth):

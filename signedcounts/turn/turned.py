@@ -36,6 +36,8 @@ from signedcounts.word.words import reduced
 from signedcounts.word.words import undone
 from signedcounts.word.words import word_of_runs
 
+_NEAR = 30
+
 
 def are_turned(one, other):
     """Whether some true table turns the first true table into the second one."""
@@ -237,7 +239,8 @@ def _powers_to_try(letters, cored, numbers):
     steps = _exponents_of(letters, cored[:first_filled(cored) + 1])
     step, at = max([(abs(steps[k]), k) for k in range(len(steps))])
     nearest = -(numbers[at] // steps[at])
-    return [0, nearest - 1, nearest, nearest + 1]
+    # At longer patterns, the numbers can be much less for a power that is not quite the nearest.
+    return [0] + list(range(nearest - _NEAR, nearest + _NEAR + 1))
 
 
 def _is_apart(letters, levels, others, value):
